@@ -1,0 +1,1 @@
+"""The tests of heldorder; they use only the interface that the document lists."""

@@ -1,0 +1,189 @@
+"""The interface: names, the files in which they stand, parameters and defaults (points 5 and 6)."""
+
+import ast
+import importlib
+import inspect
+import os
+import unittest
+
+import heldorder
+from heldorder.listing import RowBook
+from heldorder.worlds import World
+from tests.support import Case
+
+FUNCTIONS = {
+    "moves": [
+        "is_move(value)", "still_move(points)", "compose(first, second)", "opposite(move)", "power(move, times)",
+        "in_turn(points, moves)", "carried(move, row)", "renamed(move, by)", "held_points(move)",
+        "moved_points(move)", "cycles(move)", "from_cycles(points, rows)", "round_length(move)",
+    ],
+    "movetext": [
+        "format_move(move)", "parse_move(points, text, *, loose=False)", "format_world(points, moves)",
+        "parse_world(text)",
+    ],
+    "worlds": ["make_all(points, moves=())", "is_closed_list(points, moves)", "needless_told(world)"],
+    "orbits": [
+        "orbit(world, point)", "orbits(world)", "same_orbit(world, first, second)", "carriers(world, start, goal)",
+        "spelling(world, move)", "is_spelling(world, move, indexes)", "longest_spelling(world)",
+        "way(world, start, goal)", "is_way(world, start, goal, indexes)",
+    ],
+    "holding": [
+        "holders(world, lot)", "holder_world(world, lot)", "movers(world, lot, point)",
+        "first_mover(world, lot, point)", "is_mover(world, lot, point, move)", "holder_counts(world, row)",
+        "orbit_under(world, lot, point)", "row_images(world, row)", "common_held(points, moves)",
+    ],
+    "rows": [
+        "loose_indexes(world, row)", "is_tight(world, row)", "is_full(world, row)", "is_lean(world, row)",
+        "tight_part(world, row)", "completed(world, row)", "needless_indexes(world, row)",
+        "tightness_proof(world, row)", "shows_tight(world, row, moves)", "move_by_images(world, row, images)",
+    ],
+    "listing": [
+        "count_full_rows(world, *, length=None)", "full_rows(world, *, limit=2000)",
+        "tight_rows(world, length, *, limit=2000)",
+    ],
+}
+
+CLASSES = {
+    "worlds": {"World": (
+        "__init__(self, points, moves=())", ["points", "told", "made"],
+        ["__len__", "__iter__", "__contains__", "__eq__"],
+    )},
+    "listing": {"RowBook": (
+        "__init__(self, world, *, limit=2000)", ["lengths"],
+        ["__len__", "__iter__", "__contains__", "of_length"],
+    )},
+}
+
+EXAMPLE = World(6, [(1, 2, 3, 0, 5, 4)])
+ROUND = (1, 2, 3, 0, 5, 4)
+
+# Each function with arguments by name, as lists wherever a list may be passed.
+CALLS = {
+    "moves": {
+        "is_move": {"value": ROUND}, "still_move": {"points": 3}, "compose": {"first": (1, 2, 0), "second": (0, 2, 1)},
+        "opposite": {"move": ROUND}, "power": {"move": ROUND, "times": -3},
+        "in_turn": {"points": 6, "moves": [ROUND, ROUND]}, "carried": {"move": ROUND, "row": [0, 5, 0]},
+        "renamed": {"move": (1, 0, 2), "by": (1, 2, 0)}, "held_points": {"move": (2, 1, 0)},
+        "moved_points": {"move": (2, 1, 0)}, "cycles": {"move": ROUND},
+        "from_cycles": {"points": 4, "rows": [[3, 1], (), [2]]}, "round_length": {"move": ROUND},
+    },
+    "movetext": {
+        "format_move": {"move": ROUND}, "parse_move": {"points": 4, "text": "(2)(3 1)", "loose": True},
+        "format_world": {"points": 6, "moves": [ROUND, ROUND]}, "parse_world": {"text": "points 2\nmove (0 1)\n"},
+    },
+    "worlds": {
+        "make_all": {"points": 6, "moves": [ROUND]}, "is_closed_list": {"points": 2, "moves": [(0, 1), (1, 0)]},
+        "needless_told": {"world": World(2, [(1, 0), (0, 1)])},
+    },
+    "orbits": {
+        "orbit": {"world": EXAMPLE, "point": 4}, "orbits": {"world": EXAMPLE},
+        "same_orbit": {"world": EXAMPLE, "first": 4, "second": 5},
+        "carriers": {"world": EXAMPLE, "start": 4, "goal": 5}, "spelling": {"world": EXAMPLE, "move": ROUND},
+        "is_spelling": {"world": EXAMPLE, "move": ROUND, "indexes": [0]}, "longest_spelling": {"world": EXAMPLE},
+        "way": {"world": EXAMPLE, "start": 0, "goal": 2},
+        "is_way": {"world": EXAMPLE, "start": 0, "goal": 2, "indexes": [0, 0]},
+    },
+    "holding": {
+        "holders": {"world": EXAMPLE, "lot": [5, 4, 5]}, "holder_world": {"world": EXAMPLE, "lot": [5, 4, 5]},
+        "movers": {"world": EXAMPLE, "lot": [5, 4, 5], "point": 1},
+        "first_mover": {"world": EXAMPLE, "lot": [5, 4, 5], "point": 1},
+        "is_mover": {"world": EXAMPLE, "lot": [], "point": 1, "move": ROUND},
+        "holder_counts": {"world": EXAMPLE, "row": [5, 4, 0]},
+        "orbit_under": {"world": EXAMPLE, "lot": [5, 4, 5], "point": 1},
+        "row_images": {"world": EXAMPLE, "row": [5, 0]}, "common_held": {"points": 6, "moves": [ROUND]},
+    },
+    "rows": {
+        "loose_indexes": {"world": EXAMPLE, "row": [0, 4]}, "is_tight": {"world": EXAMPLE, "row": [0, 4]},
+        "is_full": {"world": EXAMPLE, "row": [0, 4]}, "is_lean": {"world": EXAMPLE, "row": [0, 4]},
+        "tight_part": {"world": EXAMPLE, "row": [0, 4]}, "completed": {"world": EXAMPLE, "row": [5, 4]},
+        "needless_indexes": {"world": EXAMPLE, "row": [4, 0]}, "tightness_proof": {"world": EXAMPLE, "row": [4, 0]},
+        "shows_tight": {"world": EXAMPLE, "row": [4], "moves": (ROUND,)},
+        "move_by_images": {"world": EXAMPLE, "row": [4, 0], "images": [5, 1]},
+    },
+    "listing": {
+        "count_full_rows": {"world": EXAMPLE, "length": 2}, "full_rows": {"world": EXAMPLE, "limit": 12},
+        "tight_rows": {"world": EXAMPLE, "length": 1, "limit": 6},
+    },
+}
+
+
+def described(function):
+    """The name and the parameters as the document writes them, without annotations."""
+    signature = inspect.signature(function)
+    plain = [p.replace(annotation=inspect.Parameter.empty) for p in signature.parameters.values()]
+    return function.__name__ + str(inspect.Signature(plain))
+
+
+def shown(result):
+    """What can be compared of a result."""
+    return (result.points, result.told, result.made) if isinstance(result, World) else result
+
+
+def functions():
+    for module, listed in FUNCTIONS.items():
+        found = importlib.import_module(f"heldorder.{module}")
+        for form in listed:
+            yield module, form, getattr(found, form.partition("(")[0])
+
+
+class Interface(Case):
+
+    def test_the_package_holds_a_docstring_alone(self):
+        with open(heldorder.__file__, encoding="ascii") as file:
+            body = ast.parse(file.read()).body
+        self.assertEqual(len(body), 1)
+        self.assertIsInstance(body[0].value.value, str)
+        self.assertEqual(os.path.basename(os.path.dirname(heldorder.__file__)), "heldorder")
+
+    def test_functions(self):
+        for module, form, function in functions():
+            with self.subTest(function=form):
+                self.assertEqual(described(function), form)
+                self.assertEqual(function.__module__, f"heldorder.{module}")
+
+    def test_classes(self):
+        for module, classes in CLASSES.items():
+            found = importlib.import_module(f"heldorder.{module}")
+            for name, (form, properties, methods) in classes.items():
+                kind = getattr(found, name)
+                with self.subTest(name=name):
+                    self.assertEqual(kind.__module__, f"heldorder.{module}")
+                    self.assertEqual(described(vars(kind)["__init__"]), form)
+                    for listed in properties:
+                        self.assertIsInstance(vars(kind)[listed], property)
+                    for listed in methods:
+                        self.assertTrue(inspect.isfunction(vars(kind)[listed]), listed)
+        self.assertEqual(described(vars(RowBook)["of_length"]), "of_length(self, length)")
+
+    def test_arguments_by_position_and_by_name(self):
+        for module, form, function in functions():
+            named = CALLS[module][function.__name__]
+            kinds = {p.name: p.kind for p in inspect.signature(function).parameters.values()}
+            placed = [value for name, value in named.items() if kinds[name] == inspect.Parameter.POSITIONAL_OR_KEYWORD]
+            rest = {name: value for name, value in named.items() if kinds[name] == inspect.Parameter.KEYWORD_ONLY}
+            with self.subTest(function=form):
+                self.same(shown(function(**named)), shown(function(*placed, **rest)))
+
+    def test_equal_calls_give_equal_and_new_results(self):
+        for module, form, function in functions():
+            named = CALLS[module][function.__name__]
+            with self.subTest(function=form):
+                before = repr({name: shown(value) for name, value in named.items()})
+                first = function(**named)
+                text = repr(shown(first))
+                if isinstance(first, list):
+                    first.append("changed")
+                    first.reverse()
+                self.same(repr(shown(function(**named))), text)
+                self.same(repr({name: shown(value) for name, value in named.items()}), before)
+
+    def test_tuples_count_like_lists(self):
+        for module, form, function in functions():
+            named = CALLS[module][function.__name__]
+            tuples = {name: tuple(value) if isinstance(value, list) else value for name, value in named.items()}
+            with self.subTest(function=form):
+                self.same(shown(function(**named)), shown(function(**tuples)))
+
+
+if __name__ == "__main__":
+    unittest.main()
