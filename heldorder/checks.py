@@ -14,6 +14,18 @@ def is_point(points, value):
     return is_number(value, 0, points - 1)
 
 
+def is_row_of(points, value):
+    """Whether the value is a list or a tuple of at most 24 of this many points."""
+    if not isinstance(value, (list, tuple)) or len(value) > MOST_ROW:
+        return False
+    return all([is_point(points, entry) for entry in value])
+
+
+def is_tuple_of(points, value):
+    """Whether the value is a tuple of at most 24 of this many points."""
+    return isinstance(value, tuple) and is_row_of(points, value)
+
+
 def is_move_on(points, value):
     """Whether the value is a move on this number of points."""
     # The length comes first: the value may have very many entries.

@@ -1,19 +1,20 @@
 """Lists and numbers of the tight rows and of the tight full rows of a world.
 
 Which points can follow a tight row depends on its closure alone. So rows are counted by their closures first,
-and listed only if there are not too many. A lot is kept as a whole number here: bit p says that it contains p.
+and listed only if there are not too many. The steps of a world are those of heldorder.closure: for each closed lot,
+as a number, the points outside with the closure of the lot with each of them added.
 """
 
 from heldorder.checks import check_number, is_number
+from heldorder.closure import mark_bits, steps_above
 from heldorder.errors import MOST_POINTS, MOST_ROWS, TooMany
-from heldorder.moves import held_points
 
 
 def count_full_rows(world, *, length=None):
     """The number of tight full rows, of all of them or of those with this length."""
     if length is not None:
         check_number(length, 0, MOST_POINTS)
-    steps = _tight_steps(world)
+    steps = world_steps(world)
     levels = _levels(steps)
     return _count_full(steps, levels if length is None else levels[length:length + 1])
 
@@ -21,22 +22,17 @@ def count_full_rows(world, *, length=None):
 def full_rows(world, *, limit=MOST_ROWS):
     """All tight full rows in ascending order."""
     check_number(limit, 0, MOST_ROWS)
-    steps = _tight_steps(world)
+    steps = world_steps(world)
     if _count_full(steps, _levels(steps)) > limit:
         raise TooMany("rows", limit)
-    found = []
-    pairs = _first_pairs(steps)
-    while pairs:
-        found.extend([row for row, lot in pairs if not steps[lot]])
-        pairs = _longer_pairs(steps, pairs)
-    return sorted(found)
+    return full_rows_of(steps)
 
 
 def tight_rows(world, length, *, limit=MOST_ROWS):
     """All tight rows of this length in ascending order."""
     check_number(length, 0, MOST_POINTS)
     check_number(limit, 0, MOST_ROWS)
-    steps = _tight_steps(world)
+    steps = world_steps(world)
     if sum([many for level in _levels(steps)[length:length + 1] for many in level.values()]) > limit:
         raise TooMany("rows", limit)
     reach = _reach(steps)
@@ -78,36 +74,55 @@ class RowBook:
         return [row for row in self._rows if len(row) == length]
 
 
-def _tight_steps(world):
-    """For each closure of a tight row the pairs of a point outside and the closure with it added."""
-    marks = sorted({_bits(held_points(move)) for move in world})
-    steps = {}
-    waiting = [_closed(marks, 0)]
-    while waiting:
-        lot = waiting.pop()
-        if lot not in steps:
-            outside = [point for point in range(world.points) if not lot & (1 << point)]
-            steps[lot] = [(point, _closed(marks, lot | (1 << point))) for point in outside]
-            waiting.extend([after for _, after in steps[lot]])
-    return steps
+def world_steps(world):
+    """The steps of the world, from each of its closed lots."""
+    return steps_above(mark_bits(world), 0)
 
 
-def _bits(lot):
-    return sum([1 << point for point in lot])
+def full_rows_of(steps):
+    """All tight full rows in ascending order, however many."""
+    found = []
+    pairs = _first_pairs(steps)
+    while pairs:
+        found.extend([row for row, lot in pairs if not steps[lot]])
+        pairs = _longer_pairs(steps, pairs)
+    return sorted(found)
 
 
-def _closed(marks, lot):
-    # The greatest mark is that of the still move, which contains every lot.
-    closed = marks[-1]
-    for mark in marks:
-        if mark & lot == lot:
-            closed = closed & mark
-    return closed
+def lengths_of(steps):
+    """The lengths of the tight full rows, ascending."""
+    whole = whole_lot(steps)
+    return [length for length, level in enumerate(_levels(steps)) if whole in level]
+
+
+def least_rows(steps):
+    """For each number of points the closures of tight rows, each with the least tight row that has it."""
+    levels = []
+    level = {_first_closed(steps): ()}
+    while level:
+        levels.append(level)
+        level = _next_least(steps, level)
+    return levels
+
+
+def whole_lot(steps):
+    """The lot of all points, as a number."""
+    # A lot that another one contains is the lesser number.
+    return max(steps)
 
 
 def _first_closed(steps):
-    # A lot that another one contains is the lesser number, and all contain the closure of the empty lot.
+    # All closed lots contain the closure of the empty lot.
     return min(steps)
+
+
+def _next_least(steps, level):
+    following = {}
+    for lot, row in level.items():
+        for point, after in steps[lot].items():
+            longer = row + (point,)
+            following[after] = min(following.get(after, longer), longer)
+    return following
 
 
 def _levels(steps):
@@ -123,21 +138,21 @@ def _levels(steps):
 def _next_level(steps, level):
     following = {}
     for lot, many in level.items():
-        for _, after in steps[lot]:
+        for after in steps[lot].values():
             following[after] = following.get(after, 0) + many
     return following
 
 
 def _count_full(steps, levels):
-    # The lot of all points is the only closure that no point can follow.
-    return sum([many for level in levels for lot, many in level.items() if not steps[lot]])
+    whole = whole_lot(steps)
+    return sum([level.get(whole, 0) for level in levels])
 
 
 def _reach(steps):
     """For each closure the greatest number of points that can still follow."""
     reach = {}
     for lot in sorted(steps, reverse=True):
-        reach[lot] = max([reach[after] + 1 for _, after in steps[lot]], default=0)
+        reach[lot] = max([reach[after] + 1 for after in steps[lot].values()], default=0)
     return reach
 
 
@@ -147,4 +162,4 @@ def _first_pairs(steps):
 
 def _longer_pairs(steps, pairs):
     """The pairs of a tight row and its closure, with each point added that can follow."""
-    return [(row + (point,), after) for row, lot in pairs for point, after in steps[lot]]
+    return [(row + (point,), after) for row, lot in pairs for point, after in steps[lot].items()]

@@ -1,8 +1,9 @@
 """Rows of points: tight, loose, full and lean ones, and what shows it."""
 
-from heldorder.checks import check_row
+from heldorder.checks import check_row, is_row_of
+from heldorder.closure import closure
 from heldorder.errors import NotFull, NotTight, UnlikeSizes
-from heldorder.holding import first_mover, held_by_all, holder_counts, holders, is_mover, those_holding
+from heldorder.holding import first_mover, holder_counts, holders, is_mover, those_holding
 from heldorder.moves import carry
 
 
@@ -50,15 +51,12 @@ def completed(world, row):
 def needless_indexes(world, row):
     """The indexes without which the row has the same holders."""
     many = len(holders(world, row))
-    without = [row[:index] + row[index + 1:] for index in range(len(row))]
-    return tuple([index for index, rest in enumerate(without) if len(holders(world, rest)) == many])
+    return tuple([index for index in range(len(row)) if len(holders(world, without(row, index))) == many])
 
 
 def tightness_proof(world, row):
     """For each index the least mover of the point there behind the points in front."""
-    loose = loose_indexes(world, row)
-    if loose:
-        raise NotTight(loose[0])
+    check_tight(world, row)
     return tuple([first_mover(world, row[:index], point) for index, point in enumerate(row)])
 
 
@@ -74,13 +72,35 @@ def move_by_images(world, row, images):
     """The made move that carries the full row to the images, or None."""
     check_row(world.points, row)
     check_row(world.points, images)
-    closed = held_by_all(world.points, holders(world, row))
-    outside = [point for point in range(world.points) if point not in closed]
-    if outside:
-        raise NotFull(outside[0])
+    check_full(world, row)
     if len(row) != len(images):
         raise UnlikeSizes(len(row), len(images))
     for move in world:
         if carry(move, row) == tuple(images):
             return move
     return None
+
+
+def without(row, index):
+    """The tuple of the row without its entry at the index."""
+    return tuple(row[:index]) + tuple(row[index + 1:])
+
+
+def check_tight(world, row):
+    """Refuse a row that is loose somewhere."""
+    loose = loose_indexes(world, row)
+    if loose:
+        raise NotTight(loose[0])
+
+
+def check_full(world, row):
+    """Refuse a row that is not full."""
+    closed = closure(world, row)
+    outside = [point for point in range(world.points) if point not in closed]
+    if outside:
+        raise NotFull(outside[0])
+
+
+def is_tight_full_row(world, value):
+    """Whether the value is a list or a tuple that is a tight full row."""
+    return is_row_of(world.points, value) and is_tight(world, value) and is_full(world, value)

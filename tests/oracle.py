@@ -156,6 +156,9 @@ GIVEN = {
         by_steps(12, (4, 6), (5, 7), (1, 10), (9, 11), (2, 3)),
         by_steps(12, (4, 1), (5, 9), (6, 10), (7, 11)),
     ]),
+    "ten points": (10, [
+        by_steps(10, (0, 1), (2, 3), (4, 5)), by_steps(10, (4, 5), (6, 7)), by_steps(10, (4, 6), (5, 7)),
+    ]),
     "twelve points": (12, [
         beside(ring(4), (0, 1, 2, 3, 4, 5, 6, 7)),
         beside(beside((1, 0, 2, 3), ring(3)), (1, 0, 2, 3, 4)),
@@ -195,6 +198,34 @@ def drawn_uneven(seed):
                 return points, told
 
 
+BLOCKS = {
+    1: [(0,)],
+    2: [(1, 0), (0, 1)],
+    3: [(1, 2, 0), (1, 0, 2), (0, 1, 2)],
+    4: [(1, 2, 3, 0), (1, 0, 3, 2), (2, 3, 0, 1), (1, 0, 2, 3), (0, 1, 3, 2), (0, 1, 2, 3), (3, 2, 1, 0)],
+}
+
+
+def drawn_in_blocks(seed):
+    """A world of 6 to 12 points in blocks, each told move with its own part in each block, with several lengths."""
+    chance = random.Random(seed)
+    points = 6 + seed % 7
+    while True:
+        sizes = []
+        while sum(sizes) < points:
+            sizes.append(min(chance.choice([1, 2, 2, 2, 3, 4, 4]), points - sum(sizes)))
+        told = []
+        for _ in range(chance.randrange(2, 5)):
+            move = ()
+            for size in sizes:
+                move = beside(move, chance.choice(BLOCKS[size]))
+            told.append(move)
+        moves = made_up_to(points, told, 72)
+        rows = tight_rows(points, moves) if moves else []
+        if len(rows) <= 1000 and len({len(row) for row in rows if is_full(moves, row)}) > 1:
+            return points, told
+
+
 def made_up_to(points, told, most):
     """The made moves, or None if they are more than so many."""
     found = {tuple(range(points))}
@@ -214,7 +245,97 @@ def worlds():
     for seed in range(20):
         chosen[f"drawn {seed}"] = drawn(seed)
         chosen[f"drawn uneven {seed}"] = drawn_uneven(seed)
+    for seed in range(14):
+        chosen[f"drawn in blocks {seed}"] = drawn_in_blocks(seed)
     return [(name, World(points, told), points, told, made(points, told)) for name, (points, told) in chosen.items()]
+
+
+def lot_order(lots):
+    return sorted(lots, key=lambda lot: (len(lot), lot))
+
+
+class Known:
+    """What is true of one world, each lot and each row looked at by itself."""
+
+    def __init__(self, name, world, points, told, made):
+        self.name, self.world, self.points, self.told, self.made = name, world, points, told, made
+        self.closures = {}
+        self._close((), made)
+
+    def _close(self, lot, held):
+        points = range(self.points)
+        self.closures[lot] = tuple(p for p in points if all(move[p] == p for move in held))
+        for point in range(lot[-1] + 1 if lot else 0, self.points):
+            self._close(lot + (point,), [move for move in held if move[point] == point])
+
+    def shut(self, row):
+        """The closure of the lot of the row's points."""
+        return self.closures[tuple(sorted(set(row)))]
+
+    @functools.cached_property
+    def lots(self):
+        return lot_order(self.closures)
+
+    @functools.cached_property
+    def closed(self):
+        return [lot for lot in self.lots if self.closures[lot] == lot]
+
+    @functools.cached_property
+    def tight(self):
+        """The tight rows, shorter ones first."""
+        return lot_order(tight_rows(self.points, self.made))
+
+    @functools.cached_property
+    def full(self):
+        """The tight full rows, shorter ones first."""
+        return [row for row in self.tight if is_full(self.made, row)]
+
+    @property
+    def lengths(self):
+        return sorted({len(row) for row in self.full})
+
+    def is_tight(self, row):
+        return all(point not in self.shut(row[:index]) for index, point in enumerate(row))
+
+    def is_full(self, row):
+        return len(self.shut(row)) == self.points
+
+    def tight_part(self, row):
+        return tuple(point for index, point in enumerate(row) if point not in self.shut(row[:index]))
+
+    def pairs(self, lot):
+        """The pairs that fulfil the conditions 2 to 4 with the lot."""
+        points = range(self.points)
+        return [(p, q) for p in points for q in points if not self.failed(lot, p, q)]
+
+    def failed(self, lot, p, q):
+        """The first of the conditions 2 to 4 that is not fulfilled, or 0."""
+        if q in self.shut(lot):
+            return 2
+        if q not in self.shut(tuple(lot) + (p,)):
+            return 3
+        return 4 if p in self.shut(tuple(lot) + (q,)) else 0
+
+    def lots_to_try(self, many=256):
+        """All lots, or so many of them if there are more."""
+        return self.lots if len(self.lots) <= many else random.Random(self.points).sample(self.lots, many)
+
+    @functools.cached_property
+    def first_failing(self):
+        return next(((held, p, q) for held in self.tight for p, q in self.pairs(held)), None)
+
+
+@functools.lru_cache(maxsize=None)
+def known():
+    return [Known(*told) for told in worlds()]
+
+
+def muddled(lot, seed):
+    """The lot as a list of up to 24 points in any order, with duplicates."""
+    chance = random.Random(seed)
+    more = list(lot) + ([chance.choice(lot) for _ in range(chance.randrange(25 - len(lot)))] if lot else [])
+    chance.shuffle(more)
+    return more
 
 
 def rows_to_try(points, seed, many=40):

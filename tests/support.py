@@ -3,6 +3,8 @@
 import unittest
 
 from heldorder import errors
+from heldorder.movetext import parse_move
+from heldorder.worlds import World
 
 PARAMETERS = {
     "BadNumber": ("value", "low", "high"),
@@ -52,6 +54,16 @@ NOT_MOVES = [
     (0, 1, 1), (2, 2, 2), (0, 1, 3), (0, 1, 2, 3, 4, 5, 6, 7, 8, 9, 10, 10),
 ]
 
+# Values of all kinds, deep ones and long ones, that are right for nothing.
+ANY_VALUES = NOT_WHOLE + NOT_MOVES + [
+    -1, 2, 24, BIG, -BIG, "(0)", "failing", [[]], [()], ((),), ([],), (((((0,),),),),), [[[[[[0]]]]]],
+    ((), 0), ((), 0, 4, 0), ([], 0, 4), ((), None, None), (None, 0, 4), (0, 0, 4), ("", 0, 4), ((), (0,), (4,)),
+    [(0,)] * 200000, ((),) * 200000, [()] * 100000, [0] * 200000, tuple([(0,)] * 100000), [[0]] * 50000,
+    [[0], [0, 1]], ([0], [0, 1]), [(True,), (0, 1)], ((True,), (False, True)), [None], (None,), [None, (0,)],
+    [(0,), None], ["0", "01"], ("ab",), [(0, 99)], [(-1,)], [(-1, 0)], [(BIG,)], [("0",)], [((0,),)], [([0],)], [(None,)],
+    ((4, 0), (0, 4), True), ((4, 0), (0, 4), None), ([4, 0], [0, 4], 1), ((4, 0), (0, 4)), ((4, 0), (0, 4), 1, 1),
+]
+
 
 def still(points):
     return tuple(range(points))
@@ -62,6 +74,21 @@ def swap(points, first, second):
     move = list(range(points))
     move[first], move[second] = second, first
     return tuple(move)
+
+
+def by_told(points, *texts):
+    """The world of the told moves in their written forms."""
+    return World(points, [parse_move(points, text) for text in texts])
+
+
+def allow(call, *kinds):
+    """The call, in which errors of these kinds, which come after all checks of arguments, do not matter."""
+    def allowed(*args, **named):
+        try:
+            return call(*args, **named)
+        except kinds:
+            return None
+    return allowed
 
 
 class Case(unittest.TestCase):
@@ -135,3 +162,19 @@ class Case(unittest.TestCase):
                 self.refused(errors.NotAMove(limit - 1), call, kind([whole] * (limit - 1) + [value]))
             for index in range(limit):
                 self.refused(errors.NotAMove(index), call, kind([whole] * index + [other] + [None] * (limit - index - 1)))
+
+    def check_judged_argument(self, call, *, but=()):
+        """The call gives False for values of all kinds, but for some, as they are written."""
+        right = [repr(value) for value in but]
+        for value in ANY_VALUES:
+            before = repr(value)
+            with self.subTest(value=before[:60]):
+                self.same(call(value), before in right)
+                self.same(repr(value) == before, True)
+
+    def check_two_row_arguments(self, call, points):
+        """The call checks its first row wholly before its second one; points is at least 1."""
+        self.check_row_argument(lambda row: call(row, []), points)
+        self.check_row_argument(lambda row: call([], row), points)
+        self.refused(errors.NotAPoint(points), call, [0, points], [0] * 25)
+        self.refused(errors.TooMany("row", 24), call, [None] * 25, [points])

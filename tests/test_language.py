@@ -213,6 +213,28 @@ class Language(unittest.TestCase):
                 self.assertIn(ast.unparse(node.comparators[0]), {"None", "True", "False"})
 
     @each_file
+    def test_l22_keywords_of_builtins(self, name, text, tree):
+        taken = {"sorted": {"key", "reverse"}, "min": {"key", "default"}, "max": {"key", "default"}, "sum": {"start"}}
+        taken |= {"enumerate": {"start"}, "zip": {"strict"}}
+        for node in ast.walk(tree):
+            if called(node) in BUILTINS:
+                self.assertLessEqual({keyword.arg for keyword in node.keywords}, taken.get(called(node), set()))
+            elif isinstance(node, ast.Call) and isinstance(node.func, ast.Attribute) and node.func.attr in METHODS:
+                self.assertEqual(node.keywords, [])
+
+    @each_file
+    def test_l23_iterated_at_once(self, name, text, tree):
+        above = parents(tree)
+        takers = {"list", "tuple", "dict", "sorted", "sum", "any", "all", "enumerate", "zip", "min", "max"}
+        for node in ast.walk(tree):
+            view = isinstance(node, ast.Call) and isinstance(node.func, ast.Attribute)
+            view = view and node.func.attr in {"items", "keys", "values"}
+            if view or called(node) in {"range", "zip", "enumerate", "reversed"}:
+                place = above[node]
+                looped = isinstance(place, (ast.For, ast.comprehension)) and place.iter is node
+                self.assertTrue(looped or called(place) in takers and place.args[0] is node, ast.unparse(node))
+
+    @each_file
     def test_l24_sets_are_not_kept(self, name, text, tree):
         above = parents(tree)
         for node in ast.walk(tree):
