@@ -8,6 +8,7 @@ import unittest
 
 import heldorder
 from heldorder.listing import RowBook
+from heldorder.wordbooks import Book
 from heldorder.worlds import World
 from tests.support import Case
 
@@ -41,6 +42,48 @@ FUNCTIONS = {
         "count_full_rows(world, *, length=None)", "full_rows(world, *, limit=2000)",
         "tight_rows(world, length, *, limit=2000)",
     ],
+    "closure": [
+        "closure(world, lot)", "is_closed(world, lot)", "same_hold(world, first, second)", "marks(world)",
+        "closure_by_marks(points, lots, lot)",
+    ],
+    "flats": [
+        "closed_lots(world)", "lots_above(world, lot)", "covers(world, lot)", "join_lots(world, first, second)",
+        "meet_lots(world, first, second)", "height(world)", "longest_chain(world)", "is_chain(world, lots)",
+        "chain_of_row(world, row)", "row_of_chain(world, lots)",
+    ],
+    "exchange": [
+        "failed_condition(world, held, p, q)", "is_failing(world, value)", "failing_pairs(world, lot)",
+        "failing_from(world, lot, p, q)", "exchanges_at(world, lot)", "exchanges(world)", "first_failing(world)",
+        "least_holds(world, point)", "lopsided_hold(world)", "overlapping_lots(world, lot)",
+    ],
+    "neighbours": [
+        "two_rows(world, failing)", "left_out(longer, shorter)", "is_neighbour_pair(world, longer, shorter)",
+        "failing_of_pair(world, longer, shorter)", "walk_back(world, shorter, longer)",
+        "is_walk(world, shorter, longer, rows)", "find_failing(world, first, second)",
+    ],
+    "stretch": [
+        "tight_count(world, row)", "swapped(row, index)", "swap_path(first, second)", "path_words(first, second)",
+        "count_path(world, first, second)", "rows_between(world, first, second)",
+        "row_between(world, first, second, length)", "lengths(world)", "lengths_above(world, lot)",
+        "one_length(world)", "row_of_length(world, length)", "is_stretch(world, rows)",
+    ],
+    "reorder": [
+        "every_order_tight(world, row)", "bad_order(world, row)", "is_bad_order(world, value)",
+        "count_tight_orders(world, row)", "order_from_failing(world, failing)", "shorter_from_order(world, value)",
+        "order_matters(world)", "first_bad_order(world)",
+    ],
+    "bases": [
+        "base_lots(world)", "lean_lots(world)", "is_base_lot(world, lot)",
+        "exchange_point(world, first, second, point)", "base_path(world, first, second)",
+        "is_base_path(world, first, second, value)", "inner_lengths(world, lot)", "rank(world, lot)",
+        "rank_defect(world, first, second)", "rank_levels(world)",
+    ],
+    "wordbooks": [
+        "is_word(modulus, columns, value)", "add_words(modulus, first, second)", "zero_columns(word)",
+        "words_zero_on(book, lot)", "column_closure(book, lot)", "loose_columns(book, row)", "column_rows(book)",
+        "column_lengths(book)", "word_move(modulus, word)", "move_word(modulus, move)", "book_world(book)",
+        "columns_of_row(book, row)", "points_of_columns(book, row, *, worth=0)",
+    ],
 }
 
 CLASSES = {
@@ -52,9 +95,15 @@ CLASSES = {
         "__init__(self, world, *, limit=2000)", ["lengths"],
         ["__len__", "__iter__", "__contains__", "of_length"],
     )},
+    "wordbooks": {"Book": (
+        "__init__(self, modulus, columns, words=())", ["modulus", "columns", "told", "made"],
+        ["__len__", "__iter__", "__contains__"],
+    )},
 }
 
 EXAMPLE = World(6, [(1, 2, 3, 0, 5, 4)])
+THREE = World(3, [(1, 0, 2), (0, 2, 1)])
+BOOK = Book(4, 2, [(1, 2)])
 ROUND = (1, 2, 3, 0, 5, 4)
 
 # Each function with arguments by name, as lists wherever a list may be passed.
@@ -104,6 +153,72 @@ CALLS = {
         "count_full_rows": {"world": EXAMPLE, "length": 2}, "full_rows": {"world": EXAMPLE, "limit": 12},
         "tight_rows": {"world": EXAMPLE, "length": 1, "limit": 6},
     },
+    "closure": {
+        "closure": {"world": EXAMPLE, "lot": [5, 5]}, "is_closed": {"world": EXAMPLE, "lot": [5, 4, 5]},
+        "same_hold": {"world": EXAMPLE, "first": [5], "second": [4, 4]}, "marks": {"world": EXAMPLE},
+        "closure_by_marks": {"points": 4, "lots": [[2, 0, 2], [0, 2, 1]], "lot": [2, 2]},
+    },
+    "flats": {
+        "closed_lots": {"world": EXAMPLE}, "lots_above": {"world": EXAMPLE, "lot": []},
+        "covers": {"world": EXAMPLE, "lot": [4]}, "join_lots": {"world": EXAMPLE, "first": [4], "second": []},
+        "meet_lots": {"world": EXAMPLE, "first": [4], "second": [0]}, "height": {"world": EXAMPLE},
+        "longest_chain": {"world": EXAMPLE}, "is_chain": {"world": EXAMPLE, "lots": [(), (0, 1, 2, 3, 4, 5)]},
+        "chain_of_row": {"world": EXAMPLE, "row": [4]},
+        "row_of_chain": {"world": EXAMPLE, "lots": [(), (0, 1, 2, 3, 4, 5)]},
+    },
+    "exchange": {
+        "failed_condition": {"world": EXAMPLE, "held": [4], "p": 0, "q": 1},
+        "is_failing": {"world": EXAMPLE, "value": ((), 0, 4)}, "failing_pairs": {"world": EXAMPLE, "lot": []},
+        "failing_from": {"world": EXAMPLE, "lot": [], "p": 0, "q": 4},
+        "exchanges_at": {"world": EXAMPLE, "lot": [4, 4]}, "exchanges": {"world": EXAMPLE},
+        "first_failing": {"world": EXAMPLE}, "least_holds": {"world": EXAMPLE, "point": 4},
+        "lopsided_hold": {"world": EXAMPLE}, "overlapping_lots": {"world": EXAMPLE, "lot": []},
+    },
+    "neighbours": {
+        "two_rows": {"world": EXAMPLE, "failing": ((), 0, 4)}, "left_out": {"longer": [4, 0], "shorter": [0]},
+        "is_neighbour_pair": {"world": EXAMPLE, "longer": [4, 0], "shorter": [0]},
+        "failing_of_pair": {"world": EXAMPLE, "longer": [4, 0], "shorter": [0]},
+        "walk_back": {"world": EXAMPLE, "shorter": [0], "longer": [4, 0]},
+        "is_walk": {"world": EXAMPLE, "shorter": [0], "longer": [4, 0], "rows": [(0,)]},
+        "find_failing": {"world": EXAMPLE, "first": [0], "second": [4, 0]},
+    },
+    "stretch": {
+        "tight_count": {"world": EXAMPLE, "row": [4, 5, 0]}, "swapped": {"row": [4, 5, 0], "index": 1},
+        "swap_path": {"first": 2, "second": 3}, "path_words": {"first": [4, 0], "second": [1]},
+        "count_path": {"world": EXAMPLE, "first": [4, 0], "second": [1]},
+        "rows_between": {"world": EXAMPLE, "first": [4, 0], "second": [1]},
+        "row_between": {"world": EXAMPLE, "first": [4, 0], "second": [1], "length": 2},
+        "lengths": {"world": EXAMPLE}, "lengths_above": {"world": EXAMPLE, "lot": [4, 4]},
+        "one_length": {"world": EXAMPLE}, "row_of_length": {"world": EXAMPLE, "length": 2},
+        "is_stretch": {"world": EXAMPLE, "rows": [(0,), (4, 0)]},
+    },
+    "reorder": {
+        "every_order_tight": {"world": EXAMPLE, "row": [4, 0]}, "bad_order": {"world": EXAMPLE, "row": [4, 0]},
+        "is_bad_order": {"world": EXAMPLE, "value": ((4, 0), (0, 4), 1)},
+        "count_tight_orders": {"world": EXAMPLE, "row": [4, 0]},
+        "order_from_failing": {"world": EXAMPLE, "failing": ((), 0, 4)},
+        "shorter_from_order": {"world": EXAMPLE, "value": ((4, 0), (0, 4), 1)}, "order_matters": {"world": EXAMPLE},
+        "first_bad_order": {"world": EXAMPLE},
+    },
+    "bases": {
+        "base_lots": {"world": EXAMPLE}, "lean_lots": {"world": EXAMPLE},
+        "is_base_lot": {"world": EXAMPLE, "lot": [0, 4, 4]},
+        "exchange_point": {"world": EXAMPLE, "first": [0, 4], "second": [1, 5], "point": 0},
+        "base_path": {"world": THREE, "first": [0, 1], "second": [2, 1]},
+        "is_base_path": {"world": THREE, "first": [0, 1], "second": [2, 1], "value": [(0, 1), (1, 2)]},
+        "inner_lengths": {"world": EXAMPLE, "lot": [4, 0]}, "rank": {"world": THREE, "lot": [1, 1]},
+        "rank_defect": {"world": THREE, "first": [0, 1], "second": [2, 1]}, "rank_levels": {"world": THREE},
+    },
+    "wordbooks": {
+        "is_word": {"modulus": 4, "columns": 2, "value": (3, 0)},
+        "add_words": {"modulus": 4, "first": (3, 0), "second": (3, 1)}, "zero_columns": {"word": (3, 0)},
+        "words_zero_on": {"book": BOOK, "lot": [1, 1]}, "column_closure": {"book": BOOK, "lot": [0, 0]},
+        "loose_columns": {"book": BOOK, "row": [1, 0, 1]}, "column_rows": {"book": BOOK},
+        "column_lengths": {"book": BOOK}, "word_move": {"modulus": 4, "word": (1, 2)},
+        "move_word": {"modulus": 4, "move": (1, 2, 3, 0, 6, 7, 4, 5)}, "book_world": {"book": BOOK},
+        "columns_of_row": {"book": BOOK, "row": [7, 0, 7]},
+        "points_of_columns": {"book": BOOK, "row": [1, 0, 1], "worth": 3},
+    },
 }
 
 
@@ -115,7 +230,9 @@ def described(function):
 
 
 def shown(result):
-    """What can be compared of a result."""
+    """What can be compared of a result, or of an argument."""
+    if isinstance(result, Book):
+        return result.modulus, result.columns, result.told, result.made
     return (result.points, result.told, result.made) if isinstance(result, World) else result
 
 
