@@ -143,6 +143,9 @@ GIVEN = {
         tuple(p ^ 1 for p in range(8)), (0, 2, 1, 3, 4, 6, 5, 7), (0, 1, 4, 5, 2, 3, 6, 7),
     ]),
     "eight told": (4, [by_steps(4, (0, 1)), by_steps(4, (2, 3))] * 4),
+    "the example twice": (12, [
+        beside((1, 2, 3, 0, 5, 4), (0, 1, 2, 3, 4, 5)), beside((0, 1, 2, 3, 4, 5), (1, 2, 3, 0, 5, 4)),
+    ]),
     "the example, the other way round": (6, [(1, 0, 3, 4, 5, 2)]),
     "two and three": (9, [(1, 0, 3, 4, 2, 6, 7, 8, 5)]),
     "six, three and two": (11, [(1, 0, 3, 4, 2, 6, 7, 8, 9, 10, 5)]),

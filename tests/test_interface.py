@@ -7,7 +7,7 @@ import os
 import unittest
 
 import heldorder
-from heldorder.listing import RowBook
+from heldorder.tally import Tally
 from heldorder.wordbooks import Book
 from heldorder.worlds import World
 from tests.support import Case
@@ -84,20 +84,50 @@ FUNCTIONS = {
         "column_lengths(book)", "word_move(modulus, word)", "move_word(modulus, move)", "book_world(book)",
         "columns_of_row(book, row)", "points_of_columns(book, row, *, worth=0)",
     ],
+    "makers": [
+        "ring(points)", "polygon(points)", "all_moves(points)", "cube_corners(size)", "cube_sides(size)",
+        "side_by_side(first, second)", "within(inner, outer)", "renamed_world(world, by)",
+    ],
+    "extremes": [
+        "least_length(world)", "greatest_length(world)", "least_row(world)", "greatest_row(world)",
+        "greedy_row(world)", "lazy_row(world)", "length_bounds(points, made)", "short_paper(world, size)",
+        "shows_none_full(world, size, value)",
+    ],
+    "duel": [
+        "allowed_locks(world, row)", "is_winning(world, row, *, last_loses=False)",
+        "winning_lock(world, row, *, last_loses=False)", "duel_value(world, row)",
+        "losing_lots(world, *, last_loses=False)", "is_losing_list(world, value, *, last_loses=False)",
+    ],
+    "tally": [
+        "world_tally(world)", "count_orbits(world)", "count_row_orbits(world, length)",
+        "row_orbit_heads(world, length, *, limit=2000)", "shape(move)", "shapes(world)", "exact_counts(world)",
+    ],
 }
 
+# Each class with its properties, and the methods that its own body must hold.
 CLASSES = {
     "worlds": {"World": (
-        "__init__(self, points, moves=())", ["points", "told", "made"],
-        ["__len__", "__iter__", "__contains__", "__eq__"],
+        ["points", "told", "made"],
+        ["__init__(self, points, moves=())", "__len__(self)", "__iter__(self)", "__contains__(self, value)",
+         "__eq__(self, other)"],
     )},
     "listing": {"RowBook": (
-        "__init__(self, world, *, limit=2000)", ["lengths"],
-        ["__len__", "__iter__", "__contains__", "of_length"],
+        ["lengths"],
+        ["__init__(self, world, *, limit=2000)", "__len__(self)", "__iter__(self)", "__contains__(self, value)",
+         "of_length(self, length)"],
     )},
     "wordbooks": {"Book": (
-        "__init__(self, modulus, columns, words=())", ["modulus", "columns", "told", "made"],
-        ["__len__", "__iter__", "__contains__"],
+        ["modulus", "columns", "told", "made"],
+        ["__init__(self, modulus, columns, words=())", "__len__(self)", "__iter__(self)", "__contains__(self, value)"],
+    )},
+    "duel": {"Duel": (
+        ["row", "turn", "over", "winner", "allowed"],
+        ["__init__(self, world, *, last_loses=False)", "lock(self, point)", "undo(self)", "best_lock(self)"],
+    )},
+    "tally": {"Tally": (
+        ["counts", "points", "total"],
+        ["__init__(self, counts)", "at(self, k)", "of_moves(points, moves)", "__mul__(self, other)",
+         "__add__(self, other)", "__eq__(self, other)"],
     )},
 }
 
@@ -219,6 +249,30 @@ CALLS = {
         "columns_of_row": {"book": BOOK, "row": [7, 0, 7]},
         "points_of_columns": {"book": BOOK, "row": [1, 0, 1], "worth": 3},
     },
+    "makers": {
+        "ring": {"points": 3}, "polygon": {"points": 5}, "all_moves": {"points": 4}, "cube_corners": {"size": 2},
+        "cube_sides": {"size": 3}, "side_by_side": {"first": THREE, "second": EXAMPLE},
+        "within": {"inner": EXAMPLE, "outer": World(2, [(1, 0)])}, "renamed_world": {"world": THREE, "by": (1, 2, 0)},
+    },
+    "extremes": {
+        "least_length": {"world": EXAMPLE}, "greatest_length": {"world": EXAMPLE}, "least_row": {"world": EXAMPLE},
+        "greatest_row": {"world": EXAMPLE}, "greedy_row": {"world": EXAMPLE}, "lazy_row": {"world": EXAMPLE},
+        "length_bounds": {"points": 6, "made": 4}, "short_paper": {"world": THREE, "size": 1},
+        "shows_none_full": {"world": EXAMPLE, "size": 0, "value": (((), ROUND),)},
+    },
+    "duel": {
+        "allowed_locks": {"world": EXAMPLE, "row": [4]},
+        "is_winning": {"world": EXAMPLE, "row": [4], "last_loses": True},
+        "winning_lock": {"world": EXAMPLE, "row": [], "last_loses": True},
+        "duel_value": {"world": EXAMPLE, "row": [4]}, "losing_lots": {"world": EXAMPLE, "last_loses": True},
+        "is_losing_list": {"world": EXAMPLE, "value": None, "last_loses": True},
+    },
+    "tally": {
+        "world_tally": {"world": EXAMPLE}, "count_orbits": {"world": EXAMPLE},
+        "count_row_orbits": {"world": EXAMPLE, "length": 2},
+        "row_orbit_heads": {"world": EXAMPLE, "length": 2, "limit": 36}, "shape": {"move": ROUND},
+        "shapes": {"world": EXAMPLE}, "exact_counts": {"world": EXAMPLE},
+    },
 }
 
 
@@ -233,6 +287,8 @@ def shown(result):
     """What can be compared of a result, or of an argument."""
     if isinstance(result, Book):
         return result.modulus, result.columns, result.told, result.made
+    if isinstance(result, Tally):
+        return result.counts
     return (result.points, result.told, result.made) if isinstance(result, World) else result
 
 
@@ -261,16 +317,17 @@ class Interface(Case):
     def test_classes(self):
         for module, classes in CLASSES.items():
             found = importlib.import_module(f"heldorder.{module}")
-            for name, (form, properties, methods) in classes.items():
+            for name, (properties, methods) in classes.items():
                 kind = getattr(found, name)
                 with self.subTest(name=name):
                     self.assertEqual(kind.__module__, f"heldorder.{module}")
-                    self.assertEqual(described(vars(kind)["__init__"]), form)
                     for listed in properties:
                         self.assertIsInstance(vars(kind)[listed], property)
-                    for listed in methods:
-                        self.assertTrue(inspect.isfunction(vars(kind)[listed]), listed)
-        self.assertEqual(described(vars(RowBook)["of_length"]), "of_length(self, length)")
+                    for form in methods:
+                        held = vars(kind)[form.partition("(")[0]]
+                        still = isinstance(held, staticmethod)
+                        self.assertEqual(described(held.__func__ if still else held), form)
+                        self.assertEqual(still, form == "of_moves(points, moves)")
 
     def test_arguments_by_position_and_by_name(self):
         for module, form, function in functions():

@@ -72,6 +72,8 @@ def bound_names(tree):
             yield node.id
         elif isinstance(node, ast.alias):
             yield node.asname or node.name
+        elif isinstance(node, ast.ExceptHandler) and node.name:
+            yield node.name
 
 
 def parents(tree):
@@ -147,6 +149,18 @@ class Language(unittest.TestCase):
         self.assertEqual(len(names), len(set(names)))
 
     @each_file
+    def test_l3_plain_values(self, name, text, tree):
+        functions = set()
+        for node in tree.body:
+            if isinstance(node, ast.FunctionDef):
+                functions.add(node.name)
+            elif isinstance(node, ast.Assign):
+                self.assertEqual(len(node.targets), 1)
+                for part in ast.walk(node.value):
+                    plain = isinstance(part, (ast.Constant, ast.Tuple, ast.Dict, ast.Load))
+                    self.assertTrue(plain or isinstance(part, ast.Name) and part.id in functions, ast.unparse(node))
+
+    @each_file
     def test_l4_l5_decorators_and_methods(self, name, text, tree):
         within = {node for kind in ast.walk(tree) if isinstance(kind, ast.ClassDef) for node in kind.body}
         for node in ast.walk(tree):
@@ -158,6 +172,45 @@ class Language(unittest.TestCase):
                 self.assertTrue(not words or node in within)
                 if node.name.startswith("__"):
                     self.assertTrue(node in within and SPECIAL.match(node.name), node.name)
+
+    def test_l5_l18_l26_methods_properties_and_attributes(self):
+        methods, properties, attributes = set(), set(), set()
+        for _, _, tree in files():
+            for node in functions_of(tree):
+                if node.args.args and node.args.args[0].arg == "self" and not node.name.startswith("__"):
+                    (properties if node.decorator_list else methods).add(node.name)
+                elif any(ast.unparse(decorator) == "staticmethod" for decorator in node.decorator_list):
+                    methods.add(node.name)
+            for node in ast.walk(tree):
+                if isinstance(node, ast.Attribute) and isinstance(node.ctx, ast.Store):
+                    attributes.add(node.attr)
+        self.assertTrue(methods and properties and attributes)
+        self.assertFalse(methods & properties | methods & attributes | properties & attributes)
+        builtin = {name for kind in (int, str, list, tuple, dict, set, bytes, range) for name in dir(kind)}
+        self.assertFalse((methods | properties) & builtin)
+        self.assertLessEqual(attributes & builtin, {"count", "index", "title", "find", "get", "join", "copy", "add"})
+
+    @each_file
+    def test_l5_not_implemented(self, name, text, tree):
+        above = parents(tree)
+        for node in ast.walk(tree):
+            if isinstance(node, ast.Name) and node.id == "NotImplemented":
+                self.assertIsInstance(above[node], ast.Return)
+
+    @each_file
+    def test_l7_stars_in_calls(self, name, text, tree):
+        for node in ast.walk(tree):
+            if isinstance(node, ast.Call):
+                for star in [part for part in node.args if isinstance(part, ast.Starred)]:
+                    self.assertIsInstance(star.value, ast.Name)
+                self.assertTrue(all(keyword.arg for keyword in node.keywords))
+
+    @each_file
+    def test_l8_kinds(self, name, text, tree):
+        above = parents(tree)
+        for node in ast.walk(tree):
+            if called(node) == "type":
+                self.assertRegex(ast.unparse(above[node]), r"^type\(\w+\)\.__name__$")
 
     @each_file
     def test_l6_l7_statements_and_expressions(self, name, text, tree):
