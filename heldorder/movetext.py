@@ -10,7 +10,7 @@ MOVE_WORD = "move "
 def format_move(move):
     """The written form of the move: its cycles, or `()`."""
     rows = cycles(move)
-    return "".join([_written_row(row) for row in rows]) if rows else "()"
+    return "".join([written_row(row) for row in rows]) if rows else "()"
 
 
 def parse_move(points, text, *, loose=False):
@@ -48,7 +48,8 @@ def parse_world(text):
     return points, moves
 
 
-def _written_row(row):
+def written_row(row):
+    """The written form of the row: its points between brackets, with one space between two."""
     return "(" + " ".join([str(point) for point in row]) + ")"
 
 

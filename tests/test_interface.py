@@ -102,6 +102,12 @@ FUNCTIONS = {
         "world_tally(world)", "count_orbits(world)", "count_row_orbits(world, length)",
         "row_orbit_heads(world, length, *, limit=2000)", "shape(move)", "shapes(world)", "exact_counts(world)",
     ],
+    "papers": [
+        "span_table(world)", "is_right_table(world, value)", "is_length_paper(world, value)",
+        "is_verdict(world, value)", "is_right(world, value)", "length_paper(world)", "verdict(world)",
+    ],
+    "papertext": ["has_paper_form(value)", "format_paper(value)", "parse_paper(text)"],
+    "script": ["run_script(text)"],
 }
 
 # Each class with its properties, and the methods that its own body must hold.
@@ -129,12 +135,19 @@ CLASSES = {
         ["__init__(self, counts)", "at(self, k)", "of_moves(points, moves)", "__mul__(self, other)",
          "__add__(self, other)", "__eq__(self, other)"],
     )},
+    "engine": {"Engine": (
+        ["points", "told", "version", "kept"],
+        ["__init__(self, points, moves=())", "tell(self, move)", "drop(self, index)", "change(self, index, move)",
+         "edit_all(self, edits)", "undo(self)", "redo(self)", "present_world(self)", "ask(self, name)", "keep(self)",
+         "take(self, value)", "check(self)"],
+    )},
 }
 
 EXAMPLE = World(6, [(1, 2, 3, 0, 5, 4)])
 THREE = World(3, [(1, 0, 2), (0, 2, 1)])
 BOOK = Book(4, 2, [(1, 2)])
 ROUND = (1, 2, 3, 0, 5, 4)
+MANY = ("many", ((), 0, 4), (4, 0), (0,))
 
 # Each function with arguments by name, as lists wherever a list may be passed.
 CALLS = {
@@ -273,6 +286,16 @@ CALLS = {
         "row_orbit_heads": {"world": EXAMPLE, "length": 2, "limit": 36}, "shape": {"move": ROUND},
         "shapes": {"world": EXAMPLE}, "exact_counts": {"world": EXAMPLE},
     },
+    "papers": {
+        "span_table": {"world": EXAMPLE}, "is_right_table": {"world": World(1), "value": (((0,), 0, 12),)},
+        "is_length_paper": {"world": World(1), "value": ("lengths", ((),), (((0,), 0, 0),))},
+        "is_verdict": {"world": EXAMPLE, "value": MANY}, "is_right": {"world": EXAMPLE, "value": MANY},
+        "length_paper": {"world": EXAMPLE}, "verdict": {"world": EXAMPLE},
+    },
+    "papertext": {
+        "has_paper_form": {"value": MANY}, "format_paper": {"value": MANY}, "parse_paper": {"text": "one\nlot (3) 0 12\n"},
+    },
+    "script": {"run_script": {"text": "points 2\ntell (0 1)\nlengths"}},
 }
 
 
